@@ -1,0 +1,1 @@
+"""Afterwise: what the best in hindsight pays, for all rows of asks."""
