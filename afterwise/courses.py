@@ -41,7 +41,7 @@ def best_courses(store, row):
     """The number of best courses for the row."""
     check_row(store.asks, row)
     serving = Serving(store)
-    standing, _ = serving.begin()
+    standing, _ = serving.start()
     counts = [1] * len(store)
     for ask in row:
         counts = serving.counted(standing, ask, counts)

@@ -28,7 +28,7 @@ class Table:
         columns, self.places = numbered(list(zip(*rows)))
         self.columns = [(column, ranked(column)) for column in columns]
 
-    def behind(self, work):
+    def served(self, work):
         """The work behind the ask."""
         least = least_of_groups(work, self.groups)
         low = min(least)
@@ -99,7 +99,7 @@ class Serving:
         self.known_steps = {}
         self.known_sources = {}
 
-    def begin(self):
+    def start(self):
         """The standing behind the empty row, and the least number of the work."""
         return lowered(self.store.begins)
 
@@ -107,18 +107,18 @@ class Serving:
         """The standing behind a standing and an ask, and what the least work grows by."""
         key = (ask, standing)
         if key not in self.known_steps:
-            self.known_steps[key] = lowered(self.table(ask).behind(standing))
+            self.known_steps[key] = lowered(self.table_of(ask).served(standing))
         return self.known_steps[key]
 
     def counted(self, standing, ask, counts):
-        """For each state the number of courses that pay its work behind the ask, if ahead of it it is the counts."""
-        table = self.table(ask)
+        """For each state the number of courses that pay its work behind the ask, from the numbers ahead of it."""
+        table = self.table_of(ask)
         key = (ask, standing)
         if key not in self.known_sources:
             self.known_sources[key] = table.sources(standing)
         return table.counted(standing, counts, self.known_sources[key])
 
-    def table(self, ask):
+    def table_of(self, ask):
         """The table of the ask, made ready when it is needed first."""
         if ask not in self.tables:
             self.tables[ask] = Table(self.store.costs[self.store.asks.find(ask)])
@@ -126,10 +126,10 @@ class Serving:
 
     def along(self, row):
         """The standing and the least number of the work behind each beginning of the row."""
-        standing, low = self.begin()
-        behind = [(standing, low)]
+        standing, low = self.start()
+        found = [(standing, low)]
         for ask in row:
             standing, add = self.step(standing, ask)
             low = low + add
-            behind.append((standing, low))
-        return behind
+            found.append((standing, low))
+        return found

@@ -29,7 +29,7 @@ def standings(store):
 def standings_up_to(store, most):
     """The standings of a store; TooMany above the most, if it is not None."""
     serving = Serving(store)
-    lots = [serving.begin()[0]]
+    lots = [serving.start()[0]]
     rows = [""]
     numbers = {lots[0]: 0}
     steps = []
