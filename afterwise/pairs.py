@@ -1,5 +1,7 @@
 """The pairs of kinds of a machine: how far the gain of a row from the one can be above that from the other."""
 
+from afterwise.rings import ring_of, row_to
+
 
 class Pairs:
     """The pairs of kinds, the pair of one and other by the number one * count + other, and their distances."""
@@ -199,36 +201,3 @@ class Pairs:
             if ring is not None:
                 return ring
         return None
-
-
-def ring_of(choices):
-    """The pairs and asks of a ring along the choices, None if there is none."""
-    seen = {}
-    for number, start in enumerate(choices):
-        pair = start
-        while pair in choices and pair not in seen:
-            seen[pair] = number
-            pair = choices[pair][0]
-        if pair in choices and seen[pair] == number:
-            return ring_from(choices, pair)
-    return None
-
-
-def ring_from(choices, start):
-    """The steps, pairs of a pair and an ask, of the ring on which a pair stands."""
-    steps = []
-    pair = start
-    while not steps or pair != start:
-        then, ask = choices[pair]
-        steps.append((pair, ask))
-        pair = then
-    return steps
-
-
-def row_to(before, pair):
-    """The row to a pair, when for each pair the one ahead of it and the ask between them are told."""
-    row = []
-    while before[pair] is not None:
-        pair, ask = before[pair]
-        row.append(ask)
-    return "".join(row[::-1])

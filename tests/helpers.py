@@ -2,6 +2,8 @@
 
 from itertools import product
 
+from afterwise.errors import AfterError
+from afterwise.gates import Gate
 from afterwise.machines import Machine
 from afterwise.stores import Store
 
@@ -85,3 +87,26 @@ def gain(machine, kind, row):
         kind, add = machine.steps[kind][machine.asks.index(ask)]
         total += add
     return kind, total
+
+
+def random_gate(random, asks, places, none):
+    """A gate in which an ask cannot come with the probability told, drawn from a seeded source."""
+    def draw():
+        return None if random.random() < none else random.randrange(places)
+    return Gate(asks, [[draw() for _ in asks] for _ in range(places)])
+
+
+def plain_tells(teller, row):
+    """What a teller tells for a row of any length, without its least machine."""
+    if isinstance(teller, Store):
+        return min(number + end for number, end in zip(plain_work(teller, row), teller.ends))
+    return teller.first + gain(teller, 0, row)[1]
+
+
+def caught(call, *rest, **more):
+    """The error that a call raises."""
+    try:
+        call(*rest, **more)
+    except AfterError as error:
+        return error
+    raise AssertionError("no error")
