@@ -16,8 +16,8 @@ def leeway(store, ask, one, other):
     low = lowering.price_for_one_use()
     if low == price:
         # Some best course makes this change. As soon as the price rises, others have to do without it.
-        lasts = tracks.never_lost(0, mask_of([True] * len(store)))
-        return price, None if lasts else price
+        every = mask_of([True] * len(store))
+        return price, (None if tracks.never_lost(0, every) else price)
     more = lowering.lacking(low)
     while more > 0:
         low = low + more
@@ -33,13 +33,13 @@ class Lowering:
 
     def __init__(self, tracks, number, one, other):
         self.tables = tracks.store.costs
-        self.steps = tracks.least
+        self.steps = tracks.machine_steps
         self.number = number
         self.one = one
         self.other = other
         # What courses lack from there on, and what they have paid too much up to there.
         self.lows = tracks.lows
-        self.heads = [None] * len(tracks.least)
+        self.heads = [None] * len(tracks.machine_steps)
         for kind, lot, amount in zip(tracks.kinds, tracks.lots, tracks.amounts):
             head = [low - amount for low in lot]
             if self.heads[kind] is not None:

@@ -114,5 +114,5 @@ class Moments:
 
     def tolls(self, number, state, ask):
         """The number of the next stage, and the toll of the move to each of its states."""
-        then, prices, add = self.moves[number][ask]
-        return then, [price - add for price in self.prices[prices][state]]
+        then, place, add = self.moves[number][ask]
+        return then, [price - add for price in self.prices[place][state]]

@@ -22,7 +22,8 @@ class Spots:
         numbers = {self.spots[0]: 0}
         while len(self.moves) < len(self.spots):
             row, found = self.rows[len(self.moves)], []
-            for ask, spot, adds in self.moves_from(self.spots[len(self.moves)]):
+            moves = self.moves_from(self.spots[len(self.moves)])
+            for ask, spot, adds in moves:
                 if spot not in numbers:
                     if len(numbers) == MOST_SPOTS:
                         raise TooMany("spot")

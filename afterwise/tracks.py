@@ -19,11 +19,11 @@ class Tracks:
         self.gap = gap
         self.lots = found.lots
         self.steps = found.steps
-        self.least = least_steps(told_by_standings(store, found)[1])
-        self.kinds = kinds_of_standings(found.steps, self.least)
+        self.machine_steps = least_steps(told_by_standings(store, found)[1])
+        self.kinds = kinds_of_standings(found.steps, self.machine_steps)
         # What a standing costs with the ends, so that what comes to this sum at a state is best there.
         self.amounts = [min([low + end for low, end in zip(lot, store.ends)]) for lot in found]
-        rests = Rests(self.least, store)
+        rests = Rests(self.machine_steps, store)
         rests.lower_all()
         self.lows = rests.lows
         self.useful = [self.useful_states(number) for number in range(len(found))]
@@ -52,7 +52,7 @@ class Tracks:
             for state, (group, low) in enumerate(zip(table.groups, lot)):
                 if low == least[group]:
                     masks[group] = masks[group] | (1 << state)
-            sources = [joined([masks[group] for group in groups]) for groups in table.sources(lot)]
+            sources = [joined([masks[place] for place in places]) for places in table.sources(lot)]
             self.known_ties[key] = list(zip(column_masks(table.places), sources))
         return self.known_ties[key]
 

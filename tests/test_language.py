@@ -202,6 +202,39 @@ class LanguageTests(unittest.TestCase):
                     self.assertFalse(attributes & set(methods), (path, node.name))
                     self.assertEqual(len(methods), len(set(methods)), (path, node.name))
 
+    def test_no_name_is_a_method_of_one_class_and_an_attribute_of_another(self):
+        methods, attributes = set(), set()
+        for path, tree in self.each():
+            for node in ast.walk(tree):
+                if isinstance(node, ast.ClassDef):
+                    methods |= {item.name for item in node.body if isinstance(item, ast.FunctionDef)}
+                    attributes |= {
+                        item.attr for item in ast.walk(node)
+                        if isinstance(item, ast.Attribute) and isinstance(item.ctx, ast.Store)
+                    }
+        self.assertFalse(methods & attributes)
+
+    def test_loops_do_not_change_what_they_iterate_over(self):
+        for path, tree in self.each():
+            for loop in ast.walk(tree):
+                if isinstance(loop, ast.For):
+                    over = loop.iter
+                    while isinstance(over, ast.Call) and over.args and getattr(over.func, "id", None) in ("enumerate", "zip"):
+                        over = over.args[0]
+                    if isinstance(over, (ast.Name, ast.Attribute)):
+                        self.assertNotIn(ast.dump(over), self.changed_in(loop), (path, loop.lineno))
+
+    def changed_in(self, loop):
+        """What a loop assigns items to, or calls a changing method of."""
+        found = set()
+        for node in ast.walk(loop):
+            if isinstance(node, ast.Subscript) and isinstance(node.ctx, (ast.Store, ast.Del)):
+                found.add(ast.dump(node.value))
+            elif isinstance(node, ast.Call) and isinstance(node.func, ast.Attribute):
+                if node.func.attr in ("append", "pop", "extend", "insert", "remove", "clear", "setdefault", "update", "reverse"):
+                    found.add(ast.dump(node.func.value))
+        return found
+
     def test_sets_are_only_sorted_measured_or_asked(self):
         for path, tree in self.each():
             allowed = set()
