@@ -2,8 +2,9 @@
 
 from heapq import heappop, heappush
 
-# About how much is worked out round by round before other means are tried, in numbers of moments.
-SPAN = 50000
+# About so many rounds over all moments are gone before other means are tried, more only if there are many moments.
+ROUNDS = 10
+MOMENTS_FOR_A_ROUND = 20
 
 
 class Forcing:
@@ -53,8 +54,11 @@ class Forcing:
 
     def go_far(self):
         """Goes on until nothing is raised or much has been worked out; whether something was raised at last."""
+        moments = sum([len(numbers) for numbers in self.now])
+        # Few moments take few rounds: the other means come to an end the sooner, the fewer there are.
+        most = moments * max(ROUNDS, moments // MOMENTS_FOR_A_ROUND)
         done = 0
-        while self.turned and done < SPAN:
+        while self.turned and done < most:
             done = done + self.go_on()
         return len(self.turned) > 0
 

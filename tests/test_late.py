@@ -4,6 +4,7 @@ from random import Random
 from unittest.mock import patch
 
 from afterwise.errors import BadSight, TooMany, Unlike
+from afterwise.forcing import Forcing
 from afterwise.gates import Gate
 from afterwise.late import best_hand
 from afterwise.machines import least_machine
@@ -273,19 +274,35 @@ class BestHandTests(unittest.TestCase):
         self.assertEqual(verdict.rest, 479)
         self.assertGreater(max(rung for _, _, rung, _ in verdict.rungs), 900)
 
+    def test_small_stores_without_a_bounded_rest_take_few_rounds(self):
+        costs = (((0, 5), (2, 3)), ((2, 2), (4, 0)))
+        for store, sight, gate in (
+            (Store("ab", (0, 1), costs, (0, 0)), 1, Gate("ab", ((None, 1), (0, 1), (1, 1)))),
+            (Store("ah", (0, 1), costs, (0, 0)), 1, None),
+            (Store("ab", (1, -1), (((2, 2), (1, -1)), ((-1, 2), (0, 1))), (3, 3)), 1, None),
+            (Store("bf", (1, 2), (((0, 4), (3, 3)), ((3, 1), (6, 0))), (2, 3)), 0, Gate("bf", ((0, 0),))),
+        ):
+            rounds = []
+            def go_on(forcing, one_more=Forcing.go_on):
+                rounds.append(forcing)
+                return one_more(forcing)
+            with patch("afterwise.forcing.Forcing.go_on", go_on):
+                self.assertIs(self.check(store, sight, gate).holds, False)
+            self.assertLess(len(rounds), 100)
+
     def test_other_means_are_tried_at_once(self):
         # Whatever the program tries before the rounds have come to an end, the answers are the same.
         random = Random(132)
         stores = [random_store(random, "ab", random.randint(2, 3), 4) for _ in range(40)]
         stores.append(Store("a", (0, 70), (((1, 70), (5, 0)),), (0, 0)))
-        told = {span: [] for span in (1, 60)}
-        for span in told:
-            with patch("afterwise.forcing.SPAN", span):
+        told = {rounds: [] for rounds in (1, 500)}
+        for rounds in told:
+            with patch("afterwise.forcing.ROUNDS", rounds):
                 for store in stores:
                     for sight in (0, 1):
                         verdict = self.check(store, sight)
-                        told[span].append((verdict.holds, verdict.rest, verdict.rungs))
-        self.assertEqual(told[1], told[60])
+                        told[rounds].append((verdict.holds, verdict.rest, verdict.rungs))
+        self.assertEqual(told[1], told[500])
         self.assertEqual(told[1], [
             (verdict.holds, verdict.rest, verdict.rungs)
             for verdict in (best_hand(store, sight) for store in stores for sight in (0, 1))
