@@ -62,13 +62,7 @@ def judge_heights(tellers, factors, most, heights, *, counts=None, gate=None):
         return False
     if told_heights[first] + worth_of_nothing(spots, factors) > most:
         return False
-    for spot, height in told_heights.items():
-        for ask, then, adds in spots.moves_from(spot):
-            if then not in told_heights:
-                return False
-            if spots.gain_of(factors, weights, ask, adds) + told_heights[then] > height:
-                return False
-    return True
+    return keep_up(spots, told_heights, factors, weights, (0, 1))
 
 
 def judge_ring(tellers, factors, stem, ring, *, counts=None, gate=None):
@@ -92,6 +86,21 @@ def weights_and_spots(tellers, factors, counts, gate):
     weights = counts_of(tellers[0].asks, counts)
     steps = steps_of_gate(tellers[0].asks, gate)
     return weights, Spots(machines_of(tellers), steps)
+
+
+def keep_up(spots, heights, factors, weights, top):
+    """Whether no move leads to a height that its own, with what the gain is beyond the top (p, q), goes above.
+
+    What a gain is beyond the top is q times the gain less p. Each move has to lead to a spot that has a height.
+    """
+    for spot, height in heights.items():
+        for ask, then, adds in spots.moves_from(spot):
+            if then not in heights:
+                return False
+            beyond = top[1] * spots.gain_of(factors, weights, ask, adds) - top[0]
+            if beyond + heights[then] > height:
+                return False
+    return True
 
 
 def worth_of_nothing(spots, factors):

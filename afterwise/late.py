@@ -1,14 +1,8 @@
 """The best that somebody can promise who sees only some asks ahead."""
 
 from afterwise.climbs import climb_to
-from afterwise.errors import BadSight
 from afterwise.forcing import Forcing
-from afterwise.forms import is_below
-from afterwise.gates import steps_of_gate
-from afterwise.machines import least_machine
-from afterwise.moments import Moments
-
-MOST_SIGHT = 3
+from afterwise.moments import moments_of
 
 
 class BestHand:
@@ -29,10 +23,7 @@ class BestHand:
 
 def best_hand(store, sight, *, gate=None):
     """The verdict whether some hand of a sight has a bounded rest."""
-    if not is_below(sight, MOST_SIGHT + 1):
-        raise BadSight(sight)
-    steps = steps_of_gate(store.asks, gate)
-    moments = Moments(store, least_machine(store), sight, steps)
+    moments = moments_of(store, sight, gate)
     forcing = final = Forcing(moments)
     if forcing.go_far():
         final = forcing.apart()

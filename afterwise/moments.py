@@ -1,10 +1,22 @@
 """The moments of hands that see some asks ahead, and the moves between them."""
 
-from afterwise.errors import TooMany
+from afterwise.errors import BadSight, TooMany
+from afterwise.forms import is_below
+from afterwise.gates import steps_of_gate
 from afterwise.kinds import follow
+from afterwise.machines import least_machine
 from afterwise.serving import Table
 
+MOST_SIGHT = 3
 MOST_MOMENTS = 1000
+
+
+def moments_of(store, sight, gate):
+    """The moments for hands of a sight, with all errors of its arguments."""
+    if not is_below(sight, MOST_SIGHT + 1):
+        raise BadSight(sight)
+    steps = steps_of_gate(store.asks, gate)
+    return Moments(store, least_machine(store), sight, steps)
 
 
 class Moments:
@@ -81,14 +93,14 @@ class Moments:
     def all_closes(self):
         """For each stage the closes of its moments."""
         rests = {"": self.store.ends}
-        closes = []
-        for stage in self.stages:
-            if self.is_begun(stage):
-                gain = follow(self.store.asks, self.machine.steps, stage[0], stage[1])[1]
-                closes.append([rest - gain for rest in self.rests_of(stage[1], rests)])
-            else:
-                closes.append([0])
-        return closes
+        return [self.closes_at(stage, rests) for stage in self.stages]
+
+    def closes_at(self, stage, rests):
+        """The closes of the moments of a stage; what rows cost is kept in rests."""
+        if not self.is_begun(stage):
+            return [0]
+        gain = follow(self.store.asks, self.machine.steps, stage[0], stage[1])[1]
+        return [rest - gain for rest in self.rests_of(stage[1], rests)]
 
     def rests_of(self, row, rests):
         """For each state the least that serving a row costs from there, the end price with it; kept in rests."""

@@ -11,7 +11,7 @@ BUILTINS = set(
     "len range enumerate zip min max sum abs sorted reversed int str bool bytes list tuple dict set frozenset isinstance"
     " ord repr any all divmod pow iter next map Exception ValueError TypeError KeyError IndexError LookupError"
     " ZeroDivisionError ArithmeticError OverflowError RuntimeError NotImplementedError AttributeError StopIteration"
-    " NotImplemented classmethod".split()
+    " NotImplemented classmethod property".split()
 )
 METHODS = set(
     "append clear copy count endswith extend find get index insert isalnum isalpha isdigit islower isspace isupper items"
