@@ -91,4 +91,5 @@ def pairs_apart(machine):
                         met[pair] = True
                         queue.append(pair)
         at += 1
-    return tuple([(one, other) for one in range(count) for other in range(one + 1, count) if not met[one * count + other]])
+    kinds = range(count)
+    return tuple([(one, other) for one in kinds for other in kinds if one < other and not met[one * count + other]])
