@@ -599,8 +599,8 @@ class SpotTests(unittest.TestCase):
         live.watch("one", one)
         self.assertEqual(live.verdicts, (("one", "neither"),))
         with live.trial():
-            self.assertEqual(live.set_begin(1, 999 + 999), ())
-            self.assertEqual(live.set_begin(0, 999), ("one",))
+            self.assertEqual(live.set_end(1, 999), ())
+            self.assertEqual(live.set_end(0, 999), ("one",))
             self.assertEqual(live.verdicts, (("one", "never less"),))
 
     def test_great_prices(self):
