@@ -1,8 +1,10 @@
 """Checks that raise the error for a thing which is not what it should be."""
 
-from afterwise.errors import BadAsk, BadAsks, BadKind, BadRow, BadState, Unlike
+from afterwise.errors import BadAsk, BadAsks, BadKind, BadMany, BadRow, BadState, Unlike
 from afterwise.forms import is_below
 from afterwise.plain import is_asks, is_row_of
+
+MOST_MANY = 12
 
 
 def check_asks(thing):
@@ -34,6 +36,12 @@ def check_kind(count, thing):
     """Raises an error for a thing that is none of as many kinds."""
     if not is_below(thing, count):
         raise BadKind(thing)
+
+
+def check_many(thing):
+    """Raises an error for a thing that is no number of kinds that a teller may have."""
+    if not is_below(thing, MOST_MANY + 1) or thing < 1:
+        raise BadMany(thing)
 
 
 def check_like_asks(one, other):

@@ -24,7 +24,11 @@ class Hindsight:
 def great_store(teller):
     """The greatest store of a teller; its states are the views."""
     machine = least_machine(teller)
-    states = spanned_views(told_columns(teller, machine))
+    return store_of_views(machine, spanned_views(told_columns(teller, machine)))
+
+
+def store_of_views(machine, states):
+    """The greatest store from a least machine and all its views."""
     numbers = {view: number for number, view in enumerate(states)}
     rises = [[rise(view, other) for other in states] for view in states]
     costs = []

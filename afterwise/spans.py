@@ -60,8 +60,8 @@ def closed(columns, view):
     return tuple([max(numbers) for numbers in zip(*raised)])
 
 
-def spanned_views(columns):
-    """The closed views with the least number 0, ascending; TooMany above 400."""
+def spanned_views(columns, most=MOST_VIEWS):
+    """The closed views with the least number 0, ascending; TooMany above the most."""
     queue = [(0,) * len(columns[0])]
     found = {queue[0]: True}
     at = 0
@@ -69,7 +69,7 @@ def spanned_views(columns):
         for column in columns:
             view = lifted(queue[at], column)
             if view not in found:
-                if len(queue) == MOST_VIEWS:
+                if len(queue) == most:
                     raise TooMany("view")
                 found[view] = True
                 queue.append(view)
