@@ -68,38 +68,36 @@ class Learner:
 
     def find_steps(self):
         """Finds the steps between the kinds of the heads, or one more head."""
-        leads = [head + ask for head in self.heads for ask in ["", *self.asks]]
-        for row in [lead + tail for lead in leads for tail in self.tails]:
+        for row in [lead + tail for lead in self.leads() for tail in self.tails]:
             if row not in self.amounts:
                 self.next_row = row
                 return
         numbers = {self.sign(head): number for number, head in enumerate(self.heads)}
-        steps = []
-        hidden = False
-        for head in self.heads:
-            item = []
-            for ask in self.asks:
-                sign = self.sign(head + ask)
-                if sign not in numbers and len(self.heads) < self.many:
-                    self.heads.append(head + ask)
-                    return
-                hidden = hidden or sign not in numbers
-                item.append((numbers.get(sign, 0), self.amounts[head + ask] - self.amounts[head]))
-            steps.append(tuple(item))
-        self.steps = tuple(steps)
+        new = [row for row in self.leads() if self.sign(row) not in numbers]
+        if new and len(self.heads) < self.many:
+            self.heads.append(new[0])
+            return
+        self.steps = tuple([tuple([self.step(head, ask, numbers) for ask in self.asks]) for head in self.heads])
         self.compared = 0
-        if hidden:
+        if new:
             # There are more than the many kinds, so what was told is true of no teller, and any machine will do.
             self.finish()
+
+    def leads(self):
+        """The heads, each without and with an ask behind it."""
+        return [head + ask for head in self.heads for ask in ["", *self.asks]]
 
     def sign(self, row):
         """By what the kind to which a row leads is known: the gains of the tails behind it."""
         return tuple([self.amounts[row + tail] - self.amounts[row] for tail in self.tails])
 
+    def step(self, head, ask, numbers):
+        """The step of an ask from the kind of a head, when the numbers of the kinds are told by their signs."""
+        return numbers.get(self.sign(head + ask), 0), self.amounts[head + ask] - self.amounts[head]
+
     def compare(self):
         """Compares what was told with what the steps tell, for rows that show all kinds that can be hidden."""
-        leads = [head + ask for head in self.heads for ask in ["", *self.asks]]
-        ends = [(lead, tail) for lead in leads for tail in self.tails]
+        ends = [(lead, tail) for lead in self.leads() for tail in self.tails]
         most = len(ends) * number_of_rows(self.asks, self.many - len(self.heads))
         while self.compared < most:
             number, place = divmod(self.compared, len(ends))
