@@ -4,10 +4,11 @@
 class Hitting:
     """Sets that come one after the other, and the fewest things that meet all of them."""
 
-    def __init__(self):
-        self.sets = []
-        # So many things are needed at least.
+    def __init__(self, sets):
+        self.sets = smallest(sorted(set(sets)))
+        # So many things are needed at least, and the least ones that were found last.
         self.size = 0
+        self.chosen = []
 
     def add(self, things):
         """Adds a set that is not empty."""
@@ -24,18 +25,24 @@ class Hitting:
     def least(self):
         """The fewest things that meet all sets, ascending; of several the least as Python compares lists."""
         self.some()
+        if len(self.chosen) != self.size:
+            self.chosen = [0] * self.size
         chosen = []
-        left, size = self.sets, self.size
-        while left:
+        left = self.sets
+        # With more sets no lesser things than before can do, so the search goes on from those.
+        start = self.chosen
+        for size in range(self.size - 1, -1, -1):
             # The least thing that can be taken is taken; those ahead of it are not, so they are left out of the sets.
-            size -= 1
-            thing = 0
+            thing = start[len(chosen)] if start else 0
             behind = without(left, thing)
             while behind is None or hitting_of(behind, size) is None:
                 thing += 1
                 behind = without(left, thing)
+            if start and thing > start[len(chosen)]:
+                start = []
             chosen.append(thing)
             left = behind
+        self.chosen = chosen
         return chosen
 
 
@@ -65,21 +72,36 @@ def hitting_of(sets, size):
     """A set of at most so many things that meets all sets, None if there is none; small sets come first."""
     if not sets:
         return 0
+    if size == 1:
+        return common_thing(sets)
     if size < 1 or not may_do(sets, size):
         return None
+    tries = []
     things = sets[0]
-    barred = 0
     while things:
         thing = things & -things
         things = things & (things - 1)
+        left = [other for other in sets if not other & thing]
+        tries.append((len(left), thing, left))
+    barred = 0
+    # Things that meet many sets are tried first.
+    for _, thing, left in sorted(tries):
         # What comes behind can do without the things that were tried ahead of this one.
-        found = [other & ~barred for other in sets if not other & thing]
+        found = [other & ~barred for other in left]
         if 0 not in found:
-            more = hitting_of(sorted(found, key=count_of), size - 1)
+            more = hitting_of(found, size - 1)
             if more is not None:
                 return more | thing
         barred = barred | thing
     return None
+
+
+def common_thing(sets):
+    """The least thing that meets all sets, as a set; None if there is none."""
+    common = sets[0]
+    for things in sets:
+        common = common & things
+    return common & -common if common else None
 
 
 def may_do(sets, size):

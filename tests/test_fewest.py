@@ -135,9 +135,11 @@ class HittingTests(unittest.TestCase):
         for _ in range(300):
             many = random.randint(1, 8)
             sets = [random.randint(1, 2 ** many - 1) for _ in range(random.randint(0, 9))]
-            hitting = Hitting()
-            for things in sets:
+            hitting = Hitting(sets[:2])
+            for things in sets[2:]:
                 hitting.add(things)
+                if random.randrange(3) == 0:
+                    hitting.least()
             right = next(
                 list(chosen) for count in range(many + 1) for chosen in combinations(range(many), count)
                 if all(any(things >> thing & 1 for thing in chosen) for things in sets)
