@@ -63,6 +63,6 @@ def add_lost(lanes, hitting, mask):
     if asks is None:
         return False
     order = list(range(len(lanes.store)))
-    hitting.add(lanes.ways_out(mask, asks, order))
-    hitting.add(lanes.ways_out(mask, asks, order[::-1]))
+    hitting.include(lanes.ways_out(mask, asks, order))
+    hitting.include(lanes.ways_out(mask, asks, order[::-1]))
     return True

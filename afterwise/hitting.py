@@ -10,7 +10,7 @@ class Hitting:
         self.size = 0
         self.chosen = []
 
-    def add(self, things):
+    def include(self, things):
         """Adds a set that is not empty."""
         self.sets = smallest([*self.sets, things])
 

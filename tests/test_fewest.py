@@ -137,7 +137,7 @@ class HittingTests(unittest.TestCase):
             sets = [random.randint(1, 2 ** many - 1) for _ in range(random.randint(0, 9))]
             hitting = Hitting(sets[:2])
             for things in sets[2:]:
-                hitting.add(things)
+                hitting.include(things)
                 if random.randrange(3) == 0:
                     hitting.least()
             right = next(

@@ -94,6 +94,10 @@ class ForgettingTests(unittest.TestCase):
         verdict = self.check(Machine("ab", 0, steps), 6)
         self.assertEqual(verdict.pairs, ((1, 2),))
 
+        # Here two kinds are led to the kind 0 alone, which always stands apart from both.
+        verdict = self.check(Machine("ab", 0, (((1, 0), (0, 0)), ((0, 0), (2, 0)), ((0, 1), (1, 0)))), 6)
+        self.assertEqual(verdict.pairs, ((0, 1), (0, 2)))
+
     def test_depths(self):
         # Whatever comes, behind 5 asks nothing is left of the beginning.
         steps = [((min(k + 1, 5), int(k == 4)),) for k in range(6)]
