@@ -1,6 +1,12 @@
 """How the work of a store goes on from ask to ask."""
 
 
+# Of so few sums all are worked out; of more, no more than are needed to know the least one.
+FEW_GROUPS = 8
+# Works that are so many times nearer to one another than the prices do not help to find it.
+NARROW = 4
+
+
 def lowered(numbers):
     """The numbers less the least of them, and this least one."""
     low = min(numbers)
@@ -27,19 +33,33 @@ class Table:
         rows, self.groups = numbered(table)
         columns, self.places = numbered(list(zip(*rows)))
         self.columns = [(column, ranked(column)) for column in columns]
+        # In all columns the prices are as far apart as this.
+        self.width = min([max(column) - min(column) for column in columns])
 
     def served(self, work):
         """The work behind the ask."""
-        least = least_of_groups(work, self.groups)
-        low = min(least)
-        sums = [least_sum(least, low, column, ranks) for column, ranks in self.columns]
+        sums = self.least_sums(least_of_groups(work, self.groups))
         return [sums[place] for place in self.places]
 
     def sources(self, work):
         """For each unlike column the groups of states from which the work behind the ask comes."""
         least = least_of_groups(work, self.groups)
-        low = min(least)
-        return [least_places(least, low, column, ranks) for column, ranks in self.columns]
+        order = ranked(least)
+        works = [least[place] for place in order]
+        return [
+            least_places(least, order, works, column, ranks, best)
+            for (column, ranks), best in zip(self.columns, self.least_sums(least))
+        ]
+
+    def least_sums(self, least):
+        """For each unlike column the least sum of a price of it and the work beside it."""
+        if len(least) <= FEW_GROUPS:
+            return [min([price + number for price, number in zip(column, least)]) for column, _ in self.columns]
+        order = ranked(least)
+        works = [least[place] for place in order]
+        if NARROW * (works[-1] - works[0]) < self.width:
+            return [least_by_price(least, works[0], column, ranks) for column, ranks in self.columns]
+        return [least_sum(least, order, works, column, ranks) for column, ranks in self.columns]
 
     def counted(self, work, counts, sources):
         """For each state the sum of the counts of those states from which the work behind the ask comes."""
@@ -52,9 +72,9 @@ class Table:
         return [sums[place] for place in self.places]
 
 
-def ranked(column):
-    """The places of a column, those of its lesser prices first."""
-    return sorted(range(len(column)), key=lambda place: column[place])
+def ranked(numbers):
+    """The places of numbers, those of the lesser ones first."""
+    return sorted(range(len(numbers)), key=lambda place: numbers[place])
 
 
 def least_of_groups(work, groups):
@@ -66,7 +86,7 @@ def least_of_groups(work, groups):
     return list(least.values())
 
 
-def least_sum(work, low, column, ranks):
+def least_by_price(work, low, column, ranks):
     """The least sum of a work and the price beside it; low is the least work."""
     best = work[ranks[0]] + column[ranks[0]]
     for place in ranks:
@@ -78,16 +98,33 @@ def least_sum(work, low, column, ranks):
     return best
 
 
-def least_places(work, low, column, ranks):
-    """The places at which the sum of the work and the price is the least one."""
-    best = least_sum(work, low, column, ranks)
-    places = []
-    for place in ranks:
-        if column[place] + low > best:
+def least_sum(work, order, works, column, ranks):
+    """The least sum of a work and the price beside it; the works come in their order, too, the least ones first."""
+    best = work[ranks[0]] + column[ranks[0]]
+    for place, other, number in zip(ranks, order, works):
+        price = column[place]
+        # What has not been looked at has at least this price and at least this work.
+        if price + number >= best:
             break
-        if column[place] + work[place] == best:
-            places.append(place)
-    return places
+        if price + work[place] < best:
+            best = price + work[place]
+        if number + column[other] < best:
+            best = number + column[other]
+    return best
+
+
+def least_places(work, order, works, column, ranks, best):
+    """The places at which the sum of the work and the price is the best one; the works come as for least_sum."""
+    places = {}
+    for place, other, number in zip(ranks, order, works):
+        price = column[place]
+        if price + number > best:
+            break
+        if price + work[place] == best:
+            places[place] = True
+        if number + column[other] == best:
+            places[other] = True
+    return list(places)
 
 
 class Serving:
