@@ -39,12 +39,13 @@ class Lowering:
         self.other = other
         # What courses lack from there on, and what they have paid too much up to there.
         self.lows = tracks.lows
-        self.heads = [None] * len(tracks.machine_steps)
+        heads = [None] * len(tracks.machine_steps)
         for kind, lot, amount in zip(tracks.kinds, tracks.lots, tracks.amounts):
             head = [low - amount for low in lot]
-            if self.heads[kind] is not None:
-                head = [min(pair) for pair in zip(head, self.heads[kind])]
-            self.heads[kind] = head
+            if heads[kind] is not None:
+                head = [min(pair) for pair in zip(head, heads[kind])]
+            heads[kind] = head
+        self.heads = heads
         # These change while a price is tried: the numbers, and for each the last use of the price on the way.
         self.numbers = []
         self.last_uses = []

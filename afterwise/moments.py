@@ -41,11 +41,12 @@ class Moments:
         self.find_stages()
         self.closes = self.all_closes()
         # For each stage the moves that lead to it: the stage, the ask, and the rest as above.
-        self.origins = [[] for _ in self.stages]
+        origins = [[] for _ in self.stages]
         for number, item in enumerate(self.moves):
             for ask, move in enumerate(item):
                 if move is not None:
-                    self.origins[move[0]].append((number, ask, move[1], move[2]))
+                    origins[move[0]].append((number, ask, move[1], move[2]))
+        self.origins = origins
 
     def find_stages(self):
         """Finds all stages to which moves lead, and the moves."""

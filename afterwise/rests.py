@@ -18,10 +18,11 @@ class Rests:
         self.records = [[(0, low)] for low in self.lows]
         self.turned = {kind: list(range(len(store))) for kind in range(len(steps))}
         # For each kind and ask the kinds from which the ask leads to it, with the adds.
-        self.origins = [[[] for _ in store.asks] for _ in steps]
+        origins = [[[] for _ in store.asks] for _ in steps]
         for kind, item in enumerate(steps):
             for number, (then, add) in enumerate(item):
-                self.origins[then][number].append((kind, add))
+                origins[then][number].append((kind, add))
+        self.origins = origins
         # For each ask and state the prices from all states to it.
         self.prices = [list(zip(*table)) for table in store.costs]
         self.tables = {}

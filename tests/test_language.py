@@ -42,6 +42,7 @@ BAD_NODES = (
 )
 BUILTIN_ATTRIBUTES = {name for kind in (str, int, list, dict, set, bytes, tuple) for name in dir(kind)}
 ALLOWED_ATTRIBUTES = set("count index title find get join lower upper split strip copy add".split())
+CHANGING = set("append pop extend insert remove clear setdefault update reverse".split())
 
 
 def files():
@@ -77,6 +78,69 @@ def local_names(tree):
             elif isinstance(node, ast.arg):
                 names.add(node.arg)
     return names
+
+
+def changed_in(loop):
+    """What a loop assigns items to, or calls a changing method of."""
+    found = []
+    for node in ast.walk(loop):
+        if isinstance(node, ast.Subscript) and isinstance(node.ctx, (ast.Store, ast.Del)):
+            found.append(node.value)
+        elif isinstance(node, ast.Call) and isinstance(node.func, ast.Attribute) and node.func.attr in CHANGING:
+            found.append(node.func.value)
+        elif isinstance(node, ast.Call) and getattr(node.func, "id", None) in LIBRARY["heapq"]:
+            found.append(node.args[0])
+    return found
+
+
+def is_of_field(node, names):
+    """Whether a value is an attribute or a choice of such, or lies in one; the names stand for such values."""
+    if isinstance(node, ast.IfExp):
+        return is_of_field(node.body, names) or is_of_field(node.orelse, names)
+    if isinstance(node, ast.BoolOp):
+        return any(is_of_field(value, names) for value in node.values)
+    while isinstance(node, ast.Subscript):
+        node = node.value
+    return isinstance(node, ast.Attribute) or isinstance(node, ast.Name) and node.id in names
+
+
+def walks_field(node, names):
+    """Whether a loop over a value walks an attribute or something that lies in one, and no copy of it."""
+    if isinstance(node, ast.Call):
+        if isinstance(node.func, ast.Attribute) and node.func.attr in ("items", "keys", "values"):
+            return walks_field(node.func.value, names)
+        within = getattr(node.func, "id", None) in ("enumerate", "zip", "reversed")
+        return within and any(walks_field(value, names) for value in node.args)
+    return is_of_field(node, names)
+
+
+def names_of_fields(function):
+    """The names of a function that are given attributes, or what lies in them, by assignments and loops."""
+    names = set()
+    # Outer loops come ahead of inner ones here.
+    for node in ast.walk(function):
+        if isinstance(node, ast.Assign):
+            target, value = node.targets[0], node.value
+            both = isinstance(target, ast.Tuple) and isinstance(value, ast.Tuple)
+            pairs = zip(target.elts, value.elts) if both else [(target, value)]
+            given = [one for one, other in pairs if is_of_field(other, names)]
+        else:
+            given = [node.target] if isinstance(node, ast.For) and walks_field(node.iter, names) else []
+        for target in given:
+            names |= {item.id for item in ast.walk(target) if isinstance(item, ast.Name) and isinstance(item.ctx, ast.Store)}
+    return names
+
+
+def loops_that_change_fields(tree):
+    """The lines of loops that walk an attribute, or what lies in one, while items of an attribute are changed."""
+    found = []
+    for function in functions(tree):
+        names = names_of_fields(function)
+        for loop in ast.walk(function):
+            if isinstance(loop, ast.For) and walks_field(loop.iter, names):
+                if any(is_of_field(node, names) for node in changed_in(loop)):
+                    found.append(loop.lineno)
+    return sorted(set(found))
 
 
 class LanguageTests(unittest.TestCase):
@@ -222,18 +286,38 @@ class LanguageTests(unittest.TestCase):
                     while isinstance(over, ast.Call) and over.args and getattr(over.func, "id", None) in ("enumerate", "zip"):
                         over = over.args[0]
                     if isinstance(over, (ast.Name, ast.Attribute)):
-                        self.assertNotIn(ast.dump(over), self.changed_in(loop), (path, loop.lineno))
+                        changed = [ast.dump(node) for node in changed_in(loop)]
+                        self.assertNotIn(ast.dump(over), changed, (path, loop.lineno))
 
-    def changed_in(self, loop):
-        """What a loop assigns items to, or calls a changing method of."""
-        found = set()
-        for node in ast.walk(loop):
-            if isinstance(node, ast.Subscript) and isinstance(node.ctx, (ast.Store, ast.Del)):
-                found.add(ast.dump(node.value))
-            elif isinstance(node, ast.Call) and isinstance(node.func, ast.Attribute):
-                if node.func.attr in ("append", "pop", "extend", "insert", "remove", "clear", "setdefault", "update", "reverse"):
-                    found.add(ast.dump(node.func.value))
-        return found
+    def test_loops_over_fields_change_no_fields(self):
+        for path, tree in self.each():
+            self.assertEqual(loops_that_change_fields(tree), [], path)
+
+    def test_which_loops_over_fields_are_found(self):
+        found = [
+            "for a in self.one: self.other[0].append(a)",
+            "for a in self.one: self.other[a] = 0",
+            "for a, b in enumerate(self.one):\n  for c in b: self.other[c].append(a)",
+            "for a in self.one[0]: del self.other[a]",
+            "for a in self.one if self.two else []: self.other.pop()",
+            "for a in [] or self.one: self.other.clear()",
+            "for a, b in self.one.items(): box.other[a] += 1",
+            "for a in self.one: heappush(self.other, a)",
+            "one, two = self.one, 0\nfor a in one: self.other[a] = 0",
+            "other = self.other[0]\nfor a in zip([], self.one): other.append(a)",
+        ]
+        kept = [
+            "other = []\nfor a in self.one: other.append(a)\nself.other = other",
+            "for a in list(self.one): self.other[0].append(a)",
+            "for a, b in enumerate(list(self.one)): self.other[a] = b",
+            "for a in range(len(self.one)): self.other[a] = 0",
+            "for a in self.one: self.many += 1",
+            "other = list(self.other)\nfor a in self.one: other[a] = 0",
+            "for a in rows: self.other.append(a)",
+        ]
+        for text in found + kept:
+            tree = ast.parse("def told(self, rows):\n" + "\n".join(["  " + line for line in text.split("\n")]))
+            self.assertEqual(loops_that_change_fields(tree) != [], text in found, text)
 
     def test_sets_are_only_sorted_measured_or_asked(self):
         for path, tree in self.each():
